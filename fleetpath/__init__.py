@@ -1,0 +1,1 @@
+"""Fleetpath: the cars and drivers of a day."""
