@@ -31,17 +31,16 @@ def all_figures(text):
 
 
 # The length is asked for first, so that no number is ever made of a very long text.
-def looks_like_time(text):
+def has_figures_of_time(text):
     if len(text) < SHORTEST_TIME or len(text) > LONGEST_TIME:
-        return False
-    if text[-6] != "." or text[-3] != ":":
         return False
     return all_figures(text[:-6] + text[-5:-3] + text[-2:])
 
 
-# Showing the minute again finds noughts ahead, hours above 23 and minutes above 59.
+# Showing the minute again finds other signs than the point and the colon, noughts ahead, and hours and minutes
+# that are too great.
 def read(text):
-    if not looks_like_time(text):
+    if not has_figures_of_time(text):
         raise BadTime(text)
     minute = int(text[:-6]) * DAY + int(text[-5:-3]) * HOUR + int(text[-2:])
     if minute > LIMIT or shown(minute) != text:

@@ -59,3 +59,56 @@ def random_roads(source, most_places, most_ways, longest):
 def subsets(things):
     for size in range(len(things) + 1):
         yield from itertools.combinations(things, size)
+
+
+def random_table_parts(source, places, ways, count, latest):
+    """A list of trips that a table takes; fewer than asked for where the roads lead too few ways."""
+    heights = {place: plain_heights(place, ways) for place in places}
+    trips = []
+    for number in range(count):
+        origin = source.choice(places)
+        goal = source.choice(sorted(heights[origin]))
+        start = source.randint(0, latest)
+        finish = start + max(1, heights[origin][goal]) + source.randint(0, 3)
+        trips.append((f"t{number}", origin, goal, start, finish, source.randint(0, 9)))
+    source.shuffle(trips)
+    return trips
+
+
+def plain_linked(heights, one, other):
+    """Whether one car can drive both trips, that one ahead; heights as plain_heights tells them, by place."""
+    length = heights[one[2]].get(other[1])
+    return length is not None and one[4] + length <= other[3]
+
+
+def partitions(things):
+    if not things:
+        yield []
+        return
+    for rest in partitions(things[1:]):
+        yield [[things[0]]] + rest
+        for place in range(len(rest)):
+            yield rest[:place] + [[things[0]] + rest[place]] + rest[place + 1:]
+
+
+def can_be_chain(order, names):
+    """Whether the names can stand in a row, each next one behind the one ahead, in some order."""
+    return any(
+        all(later in order[earlier] for earlier, later in zip(row, row[1:]))
+        for row in itertools.permutations(names)
+    )
+
+
+def plain_fewest_chains(order):
+    return min(
+        len(parts) for parts in partitions(list(order))
+        if all(can_be_chain(order, part) for part in parts)
+    )
+
+
+def are_apart(order, names):
+    return all(other not in order[one] for one in names for other in names)
+
+
+def plain_most_apart(order):
+    return max(len(names) for names in subsets(list(order)) if are_apart(order, names))
