@@ -4,7 +4,19 @@ import inspect
 import itertools
 import unittest
 
-from fleetpath.errors import FleetError
+from fleetpath.blocks import Unlinked
+from fleetpath.errors import FleetError, NoPlace, NoTrip, NoWay
+from fleetpath.hours import AllOf, Pause, Rule, Shift, Span, Work
+from fleetpath.roads import Roads
+from fleetpath.trips import Table
+
+
+def outcome(call, *args):
+    """What a call tells, or the class and the fields of its refusal."""
+    try:
+        return call(*args)
+    except FleetError as error:
+        return (type(error), vars(error))
 
 
 class Case(unittest.TestCase):
@@ -112,3 +124,138 @@ def are_apart(order, names):
 
 def plain_most_apart(order):
     return max(len(names) for names in subsets(list(order)) if are_apart(order, names))
+
+
+class Office:
+    """A table beside lengths, links and refusals that are reckoned plainly of the same places, ways and trips."""
+
+    def __init__(self, places, ways, trips):
+        self.places = list(places)
+        self.trips = {trip[0]: trip for trip in trips}
+        self.heights = {place: plain_heights(place, ways) for place in places}
+        self.table = Table(Roads(places, ways), trips)
+
+    def length(self, origin, goal):
+        return self.heights[origin].get(goal)
+
+    def linked(self, one, other):
+        return plain_linked(self.heights, self.trips[one], self.trips[other])
+
+    def rows(self):
+        """Every row of trips, the one without names too."""
+        def walk(row):
+            yield row
+            for name in self.trips:
+                if not row or self.linked(row[-1], name):
+                    yield from walk(row + [name])
+
+        return list(walk([]))
+
+    def linked_refusal(self, names):
+        for name in names:
+            if name not in self.trips:
+                return (NoTrip, {"name": name})
+        for one, other in zip(names, names[1:]):
+            if not self.linked(one, other):
+                return (Unlinked, {"first": one, "second": other})
+        return None
+
+    def row_refusal(self, home, names):
+        if home not in self.places:
+            return (NoPlace, {"name": home})
+        return self.linked_refusal(names)
+
+    def block_refusal(self, home, names):
+        refusal = self.row_refusal(home, names)
+        if refusal or not names:
+            return refusal
+        origin, goal = self.trips[names[0]][1], self.trips[names[-1]][2]
+        if self.length(home, origin) is None:
+            return (NoWay, {"origin": home, "goal": origin})
+        if self.length(goal, home) is None:
+            return (NoWay, {"origin": goal, "goal": home})
+        return None
+
+    def block_minutes(self, home, names):
+        """Every minute in which something goes on from home to home, with the word of it and of which trip."""
+        minutes = {}
+        place, free = home, None
+        for name in names:
+            _, origin, goal, start, finish, _ = self.trips[name]
+            way = self.length(place, origin)
+            left = start - way if free is None else free
+            minutes.update({minute: ("way", name) for minute in range(left, left + way)})
+            minutes.update({minute: ("wait", name) for minute in range(left + way, start)})
+            minutes.update({minute: ("trip", name) for minute in range(start, finish)})
+            place, free = goal, finish
+        if names:
+            minutes.update({minute: ("way", None) for minute in range(free, free + self.length(place, home))})
+        return minutes
+
+    def driven(self, home, names):
+        return len([word for word, _ in self.block_minutes(home, names).values() if word != "wait"])
+
+
+def random_office(source, most_places=4, most_ways=10, count=5, latest=25, longest=5):
+    places, ways = random_roads(source, most_places, most_ways, longest)
+    return Office(places, ways, random_table_parts(source, places, ways, count, latest))
+
+
+def random_names(source, office, most=4):
+    """A list of names that is a row more often than not, and else has strangers or names in a wrong order."""
+    names = source.choice(office.rows())
+    if source.random() < 0.3:
+        names = [source.choice(list(office.trips) + ["stranger", ""]) for _ in range(source.randint(0, most))]
+    return list(names)
+
+
+def some_rules(source):
+    """Rules of every class, with numbers around what small offices need."""
+    plain = [
+        Rule(), Span(source.randint(-1, 40)), Work(source.randint(-1, 25)),
+        Pause(source.randint(-1, 15), source.randint(1, 9)),
+        Shift(source.randint(-9, 15), source.randint(10, 50)),
+    ]
+    return plain + [AllOf(source.sample(plain[1:], source.randint(0, 3)))]
+
+
+def plain_sheet(office, home, names):
+    """The minutes one by one, those of one way, one wait or one trip put together."""
+    minutes = office.block_minutes(home, names)
+    return [
+        (word, run[0][0], run[-1][0] + 1)
+        for (word, _), run in (
+            (key, list(group)) for key, group in itertools.groupby(sorted(minutes.items()), lambda item: item[1])
+        )
+    ]
+
+
+def plain_fits(rule, rows):
+    """Whether a rule lets a sheet by, reckoned minute by minute."""
+    words = {minute: word for word, start, finish in rows for minute in range(start, finish)}
+    if not words:
+        return True
+    if type(rule) is Span:
+        return len(words) <= rule.most
+    if type(rule) is Work:
+        return list(words.values()).count("way") + list(words.values()).count("trip") <= rule.most
+    if type(rule) is Shift:
+        return all(rule.first <= minute < rule.last for minute in words)
+    if type(rule) is AllOf:
+        return all(plain_fits(part, rows) for part in rule.rules)
+    if type(rule) is Pause:
+        return all(minutes <= rule.most for minutes in stretches(rule.least, words))
+    return True
+
+
+def stretches(least, words):
+    """The trips' minutes between pauses: one sign a minute, parted where enough signs of waiting stand together."""
+    signs = "".join({"way": "", "trip": "t", "wait": "."}[words[minute]] for minute in sorted(words))
+    told = [0]
+    for sign, run in itertools.groupby(signs):
+        count = len(list(run))
+        if sign == "t":
+            told[-1] += count
+        elif count >= least:
+            told.append(0)
+    return told
