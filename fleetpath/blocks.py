@@ -1,9 +1,10 @@
 """Rows of trips as the blocks that cars drive from a home: their lengths, their pieces and their legs."""
 
-from fleetpath.errors import FleetError, NoWay, Twice
+from fleetpath.checks import check_once
+from fleetpath.errors import FleetError, NoWay
 from fleetpath.links import linked
 from fleetpath.roads import check_place
-from fleetpath.trips import FINISH, GOAL, ORIGIN, SEATS, START
+from fleetpath.trips import FINISH, GOAL, NAME, ORIGIN, SEATS, START
 
 
 class Unlinked(FleetError):
@@ -75,15 +76,6 @@ def cut(table, home, names, limit):
     return pieces
 
 
-def check_once(blocks):
-    had = {}
-    for names in blocks:
-        for name in names:
-            if name in had:
-                raise Twice(name)
-            had[name] = True
-
-
 # A trip stands once in its row, so its name tells whether it is the last one.
 def legs_of(table, home, names):
     told = []
@@ -99,10 +91,9 @@ def legs_of(table, home, names):
 
 
 def legs(table, home, blocks):
-    for names in blocks:
-        check_block(table, home, names)
-    check_once(blocks)
     told = []
     for names in blocks:
+        check_block(table, home, names)
         told.extend(legs_of(table, home, names))
+    check_once([leg[NAME] for leg in told])
     return told

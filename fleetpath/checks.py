@@ -29,6 +29,14 @@ def checked_new_name(name, had):
     return name
 
 
+def check_once(names):
+    had = {}
+    for name in names:
+        if name in had:
+            raise Twice(name)
+        had[name] = True
+
+
 def check_most(things, most):
     if len(things) > most:
         raise TooMany(most)

@@ -3,6 +3,7 @@
 import inspect
 import itertools
 import unittest
+from fractions import Fraction
 
 from fleetpath.blocks import Unlinked
 from fleetpath.errors import FleetError, NoPlace, NoTrip, NoWay
@@ -27,6 +28,15 @@ class Case(unittest.TestCase):
         self.assertIs(type(error), kind)
         for field, value in fields.items():
             self.assertEqual(getattr(error, field), value)
+
+    def assert_too_few(self, rows, error):
+        """The error's lefts have, all together in these rows, just its rights, and these are too few."""
+        self.assertEqual((type(error.lefts), type(error.rights)), (list, list))
+        self.assertEqual(len(set(error.lefts)), len(error.lefts))
+        self.assertLessEqual(set(error.lefts), set(rows))
+        self.assertEqual(len(set(error.rights)), len(error.rights))
+        self.assertEqual(set(error.rights), {right for left in error.lefts for right in rows[left]})
+        self.assertLess(len(error.rights), len(error.lefts))
 
     def assert_error_classes(self, module, fields_of):
         """The module defines just these error classes, straight under FleetError, with these fields."""
@@ -259,3 +269,18 @@ def stretches(least, words):
         elif count >= least:
             told.append(0)
     return told
+
+
+def exact(top, bottom):
+    """A fraction in lowest terms as a tuple, by Python's own fractions."""
+    made = Fraction(top, bottom)
+    return (made.numerator, made.denominator)
+
+
+def plain_weight(shares, row):
+    return sum((Fraction(*shares[name]) for name in row), Fraction(0))
+
+
+def can_be_dealt(rows):
+    """Whether each left can have a right of its own, by trying everything."""
+    return any(len(set(rights)) == len(rights) for rights in itertools.product(*rows.values()))

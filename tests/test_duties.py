@@ -76,7 +76,8 @@ class Lawful(Case):
         for _ in range(150):
             office = random_office(source, most_places=2, most_ways=8, count=7, latest=45)
             home = source.choice(office.places)
-            for rule in (Span(30), Work(20), Pause(9, source.randint(1, 12)), Shift(-9, 45), AllOf([Span(32), Work(22)])):
+            pause = Pause(9, source.randint(1, 12))
+            for rule in (Span(30), Work(20), pause, Shift(-9, 45), AllOf([Span(32), Work(22), pause])):
                 self.assert_as_a_plain_search(office, home, rule)
 
     def test_no_trips(self):

@@ -8,7 +8,7 @@ from fleetpath.errors import LIMIT, BadName, BadNumber, NoPlace, NoTrip, NoWay, 
 from fleetpath.giving import TooFew, check_cars, dealt, fit_cars, give_cars
 from fleetpath.roads import Roads
 from fleetpath.trips import Table
-from tests.helper import Case, outcome, random_names, random_office, subsets
+from tests.helper import Case, can_be_dealt, outcome, random_names, random_office, subsets
 
 PLACES = ["h", "p", "far"]
 WAYS = [("h", "p", 3), ("p", "h", 4), ("far", "h", 1)]
@@ -24,34 +24,19 @@ def forty(make):
     return [make(number) for number in range(40)]
 
 
-class GivingCase(Case):
-    def assert_paper(self, rows, error):
-        """The error's lefts have, all together, just its rights, and these are too few."""
-        self.assertEqual((type(error.lefts), type(error.rights)), (list, list))
-        self.assertEqual(len(set(error.lefts)), len(error.lefts))
-        self.assertLessEqual(set(error.lefts), set(rows))
-        self.assertEqual(len(set(error.rights)), len(error.rights))
-        self.assertEqual(set(error.rights), {right for left in error.lefts for right in rows[left]})
-        self.assertLess(len(error.rights), len(error.lefts))
-
-
-class Errors(GivingCase):
+class Errors(Case):
     def test_classes(self):
         self.assert_error_classes(giving, {"TooFew": ["lefts", "rights"]})
 
 
-def can_be_dealt(rows):
-    return any(len(set(rights)) == len(rights) for rights in itertools.product(*rows.values()))
-
-
-class Dealt(GivingCase):
+class Dealt(Case):
     def assert_dealt(self, rows):
         """Whether all lefts have a right of their own; else the refusal is its own paper."""
         before = copy.deepcopy(rows)
         try:
             told = dealt(rows)
         except TooFew as error:
-            self.assert_paper(rows, error)
+            self.assert_too_few(rows, error)
             self.assertEqual(rows, before)
             return False
         self.assertIs(type(told), dict)
@@ -108,7 +93,7 @@ class Dealt(GivingCase):
             self.assert_refused(TooMany, {"most": 40}, dealt, rows)
 
 
-class Cars(GivingCase):
+class Cars(Case):
     def test_let_by(self):
         for cars in (
             [], [CAR], [("c", 0, 0)], [("c", LIMIT, LIMIT)], forty(lambda number: (f"c{number}", number, number)),
@@ -138,7 +123,7 @@ class Cars(GivingCase):
         self.assert_refused(Twice, {"name": "car"}, check_cars, [CAR, CAR, ("A", 1, 1)])
 
 
-class Fits(GivingCase):
+class Fits(Case):
     def test_seats_at_the_edge(self):
         for seats, fit in ((4, False), (5, True), (6, True), (0, False), (LIMIT, True)):
             for names in (["b"], ["a", "b"], ["a", "b", "c"]):
@@ -168,7 +153,7 @@ class Fits(GivingCase):
         self.assertEqual(fit_cars(TABLE, "h", [["a"], ["a"]], [CAR]), [["car"], ["car"]])
 
 
-class Gives(GivingCase):
+class Gives(Case):
     def test_known_givings(self):
         cars = [("x", 5, 99), ("y", 2, 99), ("z", 0, 1)]
         self.assertEqual(give_cars(TABLE, "h", [["a"], ["b"]], cars), ["y", "x"])
@@ -228,7 +213,7 @@ def plain_fit(office, home, names, car):
     return all(office.trips[name][5] <= car[1] for name in names) and office.driven(home, names) <= car[2]
 
 
-class Refusals(GivingCase):
+class Refusals(Case):
     def assert_refused_by_both(self, kind, fields, *args):
         for ask in (fit_cars, give_cars):
             self.assert_refused(kind, fields, ask, *args)
@@ -293,7 +278,7 @@ class Refusals(GivingCase):
         if not can_be_dealt(rows):
             with self.assertRaises(TooFew) as caught:
                 give_cars(office.table, home, blocks, cars)
-            self.assert_paper(rows, caught.exception)
+            self.assert_too_few(rows, caught.exception)
             return "too few"
         told = give_cars(office.table, home, blocks, cars)
         self.assertEqual((type(told), len(told)), (list, len(blocks)))
@@ -303,7 +288,7 @@ class Refusals(GivingCase):
         return "given"
 
 
-class Kept(GivingCase):
+class Kept(Case):
     def test_what_is_told_is_the_askers_own(self):
         cars = [("x", 9, 99), ("y", 9, 99)]
         blocks = [["a"], ["a"], []]

@@ -149,7 +149,7 @@ class Edges(Case):
             self.assert_edge(lambda number: Pause(number, 100), 14, rows)
 
     def test_ways_and_short_waits_part_nothing(self):
-        rows = [("way", 0, 50), ("trip", 50, 53), ("way", 53, 99), ("wait", 99, 102), ("trip", 102, 107), ("way", 107, 200)]
+        rows = [("way", 0, 50), ("trip", 50, 53), ("way", 53, 99), ("wait", 99, 102), ("trip", 102, 107)]
         self.assert_edge(lambda number: Pause(number, 4), 8, rows)
         self.assert_edge(lambda number: Pause(number, 3), 5, rows)
 
