@@ -4,7 +4,7 @@ from fleetpath.checks import check_once
 from fleetpath.errors import FleetError, NoWay
 from fleetpath.links import linked
 from fleetpath.roads import check_place
-from fleetpath.trips import FINISH, GOAL, NAME, ORIGIN, SEATS, START
+from fleetpath.trips import FINISH, GOAL, NAME, ORIGIN, SEATS, START, check_trips
 
 
 class Unlinked(FleetError):
@@ -20,8 +20,7 @@ class TooLong(FleetError):
 
 # All names are asked for ahead of all links, so a stranger at the end is told ahead of neighbours not linked.
 def check_linked(table, names):
-    for name in names:
-        table.trip(name)
+    check_trips(table, names)
     for one, other in zip(names, names[1:]):
         if not linked(table, one, other):
             raise Unlinked(one, other)

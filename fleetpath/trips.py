@@ -60,3 +60,8 @@ class Table:
         if name not in self.by_name:
             raise NoTrip(name)
         return self.by_name[name]
+
+
+def check_trips(table, names):
+    for name in names:
+        table.trip(name)

@@ -1,13 +1,15 @@
 """What the tests share: refusals asked for, and plain searches to hold answers against."""
 
+import copy
 import inspect
 import itertools
 import unittest
 from fractions import Fraction
 
 from fleetpath.blocks import Unlinked
-from fleetpath.errors import FleetError, NoPlace, NoTrip, NoWay
+from fleetpath.errors import LIMIT, BadName, BadNumber, FleetError, NoPlace, NoTrip, NoWay, TooMany, Twice
 from fleetpath.hours import AllOf, Pause, Rule, Shift, Span, Work
+from fleetpath.judges import CarJudge, DriverJudge, Judge, NoKey
 from fleetpath.roads import Roads
 from fleetpath.trips import Table
 
@@ -37,6 +39,44 @@ class Case(unittest.TestCase):
         self.assertEqual(len(set(error.rights)), len(error.rights))
         self.assertEqual(set(error.rights), {right for left in error.lefts for right in rows[left]})
         self.assertLess(len(error.rights), len(error.lefts))
+
+    def assert_dealing(self, costs, leaving, told):
+        """What is told is a dealing with prices that tell that none costs less; its cost."""
+        dealt, thing_prices, key_prices = told
+        self.assertEqual([type(part) for part in told], [dict, dict, dict])
+        self.assertEqual((set(dealt), set(thing_prices)), (set(costs), set(costs)))
+        self.assertEqual(set(key_prices), {key for thing in costs for key in costs[thing]})
+        for thing, key in dealt.items():
+            self.assertTrue(key is None or key in costs[thing])
+        given = [key for key in dealt.values() if key is not None]
+        self.assertEqual(len(set(given)), len(given))
+        for price in list(thing_prices.values()) + list(key_prices.values()):
+            self.assertIs(type(price), int)
+        self.assertLessEqual(max(key_prices.values(), default=0), 0)
+        for thing in costs:
+            self.assertLessEqual(thing_prices[thing], leaving[thing])
+            for key, cost in costs[thing].items():
+                self.assertLessEqual(thing_prices[thing] + key_prices[key], cost)
+        cost = plain_cost(costs, leaving, dealt)
+        self.assertEqual(sum(thing_prices.values()) + sum(key_prices.values()), cost)
+        return cost
+
+    def assert_mendings(self, mended, source, count, most_keys, look):
+        """Of random rows: refused as mending refuses them, or as look holds them; what look tells is counted."""
+        seen = []
+        for _ in range(count):
+            office, asked, rows, now, loose, failed = random_mending(source, most_keys)
+            before = copy.deepcopy((rows, loose, failed))
+            refusal = rows_refusal(office, asked, rows, loose, failed)
+            if refusal:
+                self.assertEqual(outcome(mended, office.table, asked.judge, rows, now, loose, failed), refusal)
+                seen.append(refusal[0])
+            else:
+                seen.append(look(office, asked, rows, now, loose, failed))
+            self.assertEqual((rows, loose, failed), before)
+        self.assertGreater(min(seen.count(True), seen.count(False)), count // 8)
+        for kind in (NoTrip, Twice, NoKey, NoPlace):
+            self.assertGreater(seen.count(kind), count // 250)
 
     def assert_error_classes(self, module, fields_of):
         """The module defines just these error classes, straight under FleetError, with these fields."""
@@ -284,3 +324,208 @@ def plain_weight(shares, row):
 def can_be_dealt(rows):
     """Whether each left can have a right of its own, by trying everything."""
     return any(len(set(rights)) == len(rights) for rights in itertools.product(*rows.values()))
+
+
+def dealings(able):
+    """Every dealing of things, each with the list of the keys that may have it."""
+    if not able:
+        yield {}
+        return
+    thing, *others = able
+    for rest in dealings({other: able[other] for other in others}):
+        for key in [None] + [key for key in able[thing] if key not in rest.values()]:
+            yield {thing: key} | rest
+
+
+def plain_cost(costs, leaving, dealt):
+    return sum(leaving[thing] if key is None else costs[thing][key] for thing, key in dealt.items())
+
+
+def is_name(text):
+    return 1 <= len(text) <= 12 and all(sign in "abcdefghijklmnopqrstuvwxyz0123456789" for sign in text)
+
+
+def listed_refusal(listed, leasts):
+    """Of a list of tuples that begin with a name: more than forty, then thing by thing the name and the numbers.
+    Leasts tell, by the place in the tuple, the least number that is let by."""
+    if len(listed) > 40:
+        return (TooMany, {"most": 40})
+    had = []
+    for one in listed:
+        if not is_name(one[0]):
+            return (BadName, {"name": one[0]})
+        if one[0] in had:
+            return (Twice, {"name": one[0]})
+        had.append(one[0])
+        for place, least in leasts.items():
+            if not least <= one[place] <= LIMIT:
+                return (BadNumber, {"value": one[place]})
+    return None
+
+
+def cars_refusal(cars):
+    return listed_refusal(cars, {1: 0, 2: 0})
+
+
+def drivers_refusal(drivers):
+    return listed_refusal(drivers, {2: -LIMIT, 3: 0, 4: 0})
+
+
+def plain_may(office, rule, asked, names):
+    """Whether a driver may have a duty, reckoned minute by minute."""
+    _, home, ended, rest, last = asked
+    if not names:
+        return True
+    if office.block_refusal(home, names):
+        return False
+    rows = plain_sheet(office, home, names)
+    minutes = office.block_minutes(home, names)
+    return plain_fits(rule, rows) and min(minutes) >= ended + rest and max(minutes) + 1 <= last
+
+
+class AnyKeys:
+    """The plain judge, beside the same reckoned plainly."""
+
+    def __init__(self):
+        self.judge = Judge()
+
+    def known(self, key):
+        return True
+
+    def place(self, key):
+        return None
+
+    def may_drive(self, office, key, names):
+        return all(office.linked(one, other) for one, other in zip(names, names[1:]))
+
+    def key_refusal(self, office, key):
+        if not self.known(key):
+            return (NoKey, {"name": key})
+        if self.place(key) is not None and self.place(key) not in office.places:
+            return (NoPlace, {"name": self.place(key)})
+        return None
+
+    def refusal(self, office, key, names):
+        refusal = self.key_refusal(office, key)
+        if refusal:
+            return refusal
+        for name in names:
+            if name not in office.trips:
+                return (NoTrip, {"name": name})
+        return None
+
+
+class SomeCars(AnyKeys):
+    def __init__(self, home, cars):
+        self.judge = CarJudge(home, cars)
+        self.home = home
+        self.cars = {name: (seats, reach) for name, seats, reach in cars}
+
+    def known(self, key):
+        return key in self.cars
+
+    def place(self, key):
+        return self.home
+
+    def may_drive(self, office, key, names):
+        if office.block_refusal(self.home, names):
+            return False
+        seats, reach = self.cars[key]
+        wanted = max((office.trips[name][5] for name in names), default=0)
+        return wanted <= seats and office.driven(self.home, names) <= reach
+
+
+class SomeDrivers(AnyKeys):
+    def __init__(self, rule, drivers):
+        self.judge = DriverJudge(rule, drivers)
+        self.rule = rule
+        self.drivers = {asked[0]: asked for asked in drivers}
+
+    def known(self, key):
+        return key in self.drivers
+
+    def place(self, key):
+        return self.drivers[key][1]
+
+    def may_drive(self, office, key, names):
+        return plain_may(office, self.rule, self.drivers[key], names)
+
+
+def random_judge(source, office, keys, strangers=0.05):
+    """A judge of any class that knows the keys, or not all of them, or whose home is no place, as often as told."""
+    if source.random() < strangers:
+        keys = keys[1:]
+    places = office.places if source.random() >= strangers else ["moon"]
+    cars = [(key, source.randint(0, 12), source.randint(0, 40)) for key in keys]
+    drivers = [
+        (key, source.choice(places), source.randint(-30, 3), source.randint(0, 10), source.randint(15, 80))
+        for key in keys
+    ]
+    return source.choice([
+        AnyKeys(), SomeCars(source.choice(places), cars), SomeDrivers(source.choice(some_rules(source)), drivers),
+    ])
+
+
+def plain_begun(office, names, now):
+    return list(itertools.takewhile(lambda name: office.trips[name][3] <= now, names))
+
+
+def plain_pieces(office, names):
+    cuts = [place for place in range(1, len(names)) if not office.linked(names[place - 1], names[place])]
+    edges = [0] + cuts + [len(names)]
+    return [names[begin:end] for begin, end in zip(edges, edges[1:]) if begin < end]
+
+
+def plain_in_time(office, asked, key, had, first, now):
+    """Whether a minute from now on, in which the key is free, leaves enough of them ahead of the trip's start."""
+    place = office.trips[had[-1]][2] if had else asked.place(key)
+    free = max([now] + [office.trips[name][4] for name in had[-1:]])
+    way = 0 if place is None else office.length(place, office.trips[first][1])
+    return way is not None and office.trips[first][3] - free >= way
+
+
+def rows_refusal(office, asked, rows, loose, failed):
+    """What mending refuses of rows, loose trips and failed keys."""
+    if len(rows) > 40:
+        return (TooMany, {"most": 40})
+    had = []
+    for names in list(rows.values()) + [loose]:
+        for name in names:
+            if name not in office.trips:
+                return (NoTrip, {"name": name})
+            if name in had:
+                return (Twice, {"name": name})
+            had.append(name)
+    for key in failed:
+        if key not in rows:
+            return (NoKey, {"name": key})
+    for key in rows:
+        refusal = asked.key_refusal(office, key)
+        if refusal:
+            return refusal
+    return None
+
+
+def random_rows(source, office, keys, strange=0.05):
+    """Rows and loose trips of an office, most rows by their starts, now and then with a name that is due elsewhere."""
+    names = source.sample(sorted(office.trips), len(office.trips))
+    rows = {key: [] for key in keys}
+    lists = list(rows.values()) * 3 + [[], []]
+    for name in names:
+        source.choice(lists).append(name)
+    if source.random() < strange:
+        source.choice(lists).append(source.choice(sorted(office.trips) + ["stranger", ""]))
+    for key in rows:
+        if source.random() < 0.8:
+            rows[key].sort(key=lambda name: office.trips.get(name, (0, 0, 0, 99))[3])
+    return rows, lists[-1]
+
+
+def random_mending(source, most_keys):
+    """An office, a judge, rows, a minute, loose trips and failed keys, now and then with something to refuse."""
+    office = random_office(source, most_ways=14, count=source.randint(0, 6), latest=30)
+    keys = ["k", "l", "m", "n"][:source.randint(0, most_keys)]
+    asked = random_judge(source, office, keys)
+    rows, loose = random_rows(source, office, keys)
+    failed = [source.choice(keys + ["z"] * (source.random() < 0.05)) for _ in keys if source.random() < 0.2]
+    return office, asked, rows, source.randint(-2, 30), loose, failed

@@ -10,7 +10,7 @@ from fleetpath.hours import AllOf, Pause, Rule, Shift, Span, Work
 from fleetpath.roads import Roads
 from fleetpath.trips import Table
 from tests.helper import (
-    Case, can_be_dealt, outcome, plain_fits, plain_sheet, random_names, random_office, some_rules,
+    Case, can_be_dealt, drivers_refusal, outcome, plain_may, random_names, random_office, some_rules,
 )
 
 PLACES = ["h", "p", "out", "in"]
@@ -127,35 +127,8 @@ class One(Case):
             self.assert_refused(NoTrip, {"name": name}, driver_fits, TABLE, Rule(), asked, ["b", "a", name])
 
 
-def plain_may(office, rule, asked, names):
-    _, home, ended, rest, last = asked
-    if not names:
-        return True
-    if office.block_refusal(home, names):
-        return False
-    rows = plain_sheet(office, home, names)
-    minutes = office.block_minutes(home, names)
-    return plain_fits(rule, rows) and min(minutes) >= ended + rest and max(minutes) + 1 <= last
-
-
-def plain_drivers_refusal(drivers):
-    if len(drivers) > 40:
-        return (TooMany, {"most": 40})
-    had = []
-    for name, _, ended, rest, last in drivers:
-        if not (1 <= len(name) <= 12 and name.isalnum() and name.islower()):
-            return (BadName, {"name": name})
-        if name in had:
-            return (Twice, {"name": name})
-        had.append(name)
-        for value, least in ((ended, -LIMIT), (rest, 0), (last, 0)):
-            if not least <= value <= LIMIT:
-                return (BadNumber, {"value": value})
-    return None
-
-
 def plain_refusal(office, duties, drivers):
-    refusal = plain_drivers_refusal(drivers)
+    refusal = drivers_refusal(drivers)
     if refusal:
         return refusal
     for asked in drivers:

@@ -8,7 +8,7 @@ from fleetpath.errors import LIMIT, BadName, BadNumber, NoPlace, NoTrip, NoWay, 
 from fleetpath.giving import TooFew, check_cars, dealt, fit_cars, give_cars
 from fleetpath.roads import Roads
 from fleetpath.trips import Table
-from tests.helper import Case, can_be_dealt, outcome, random_names, random_office, subsets
+from tests.helper import Case, can_be_dealt, cars_refusal, outcome, random_names, random_office, subsets
 
 PLACES = ["h", "p", "far"]
 WAYS = [("h", "p", 3), ("p", "h", 4), ("far", "h", 1)]
@@ -180,24 +180,8 @@ class Gives(Case):
         self.assertEqual(told, forty(lambda number: f"c{39 - number}"))
 
 
-def plain_cars_refusal(cars):
-    if len(cars) > 40:
-        return (TooMany, {"most": 40})
-    had = []
-    for name, seats, reach in cars:
-        if not (1 <= len(name) <= 12 and name.isalnum() and name.islower()):
-            return (BadName, {"name": name})
-        if name in had:
-            return (Twice, {"name": name})
-        had.append(name)
-        for value in (seats, reach):
-            if not 0 <= value <= LIMIT:
-                return (BadNumber, {"value": value})
-    return None
-
-
 def plain_refusal(office, home, blocks, cars):
-    refusal = plain_cars_refusal(cars)
+    refusal = cars_refusal(cars)
     if refusal:
         return refusal
     if len(blocks) > 40:
