@@ -52,10 +52,14 @@ def metres(metre, loads, night):
     return [metre_at(metre, loads, night, day) for day in range(DAYS)]
 
 
+def needs_care(metre, due, loads):
+    return metre + sum(loads) > due
+
+
 def nights_of_needy(weeks):
     chosen = {}
     for name, metre, due, loads in weeks:
-        if metre + sum(loads) > due:
+        if needs_care(metre, due, loads):
             chosen[name] = nights(metre, due, loads)
     return chosen
 

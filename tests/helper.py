@@ -6,12 +6,14 @@ import itertools
 import unittest
 from fractions import Fraction
 
-from fleetpath.blocks import Unlinked
+from fleetpath.blocks import TooLong, Unlinked
+from fleetpath.duties import Unlawful
 from fleetpath.errors import LIMIT, BadName, BadNumber, FleetError, NoPlace, NoTrip, NoWay, TooMany, Twice
 from fleetpath.hours import AllOf, Pause, Rule, Shift, Span, Work
 from fleetpath.judges import CarJudge, DriverJudge, Judge, NoKey
+from fleetpath.mending import BIG
 from fleetpath.roads import Roads
-from fleetpath.trips import Table
+from fleetpath.trips import Backward, Table, TooFast
 
 
 def outcome(call, *args):
@@ -60,6 +62,23 @@ class Case(unittest.TestCase):
         cost = plain_cost(costs, leaving, dealt)
         self.assertEqual(sum(thing_prices.values()) + sum(key_prices.values()), cost)
         return cost
+
+    def assert_mended(self, told, office, asked, rows, now, loose, failed):
+        """What a mending told is as the document tells it; the things, and what they cost."""
+        self.assertEqual([type(part) for part in told], [dict, list, list, tuple])
+        things = plain_things(office, rows, loose, now)
+        costs = tail_costs(office, asked, rows, now, failed, things)
+        leaving = {
+            number: BIG * len(names) + (owner is not None and count == 1)
+            for number, (names, owner, _, count) in enumerate(things)
+        }
+        self.assertEqual(told[3][:3], ([thing[0] for thing in things], costs, leaving))
+        self.assertEqual(len(told[3]), 6)
+        cost = self.assert_dealing(costs, leaving, told[3][3:])
+        self.assertEqual(told[:3], dealt_rows(office, rows, now, things, told[3][3]))
+        self.assertEqual(list(told[0]), list(rows))
+        self.assertEqual(divmod(cost, BIG), worth(things, told))
+        return things, costs
 
     def assert_mendings(self, mended, source, count, most_keys, look):
         """Of random rows: refused as mending refuses them, or as look holds them; what look tells is counted."""
@@ -181,6 +200,7 @@ class Office:
 
     def __init__(self, places, ways, trips):
         self.places = list(places)
+        self.ways = list(ways)
         self.trips = {trip[0]: trip for trip in trips}
         self.heights = {place: plain_heights(place, ways) for place in places}
         self.table = Table(Roads(places, ways), trips)
@@ -244,6 +264,30 @@ class Office:
 
     def driven(self, home, names):
         return len([word for word, _ in self.block_minutes(home, names).values() if word != "wait"])
+
+
+def trip_refusal(office, trip):
+    """What a table refuses of a trip that is put behind those that there are."""
+    name, origin, goal, start, finish, seats = trip
+    if len(office.trips) >= 40:
+        return (TooMany, {"most": 40})
+    if not is_name(name):
+        return (BadName, {"name": name})
+    if name in office.trips:
+        return (Twice, {"name": name})
+    for place in (origin, goal):
+        if place not in office.places:
+            return (NoPlace, {"name": place})
+    for value in (start, finish, seats):
+        if not 0 <= value <= LIMIT:
+            return (BadNumber, {"value": value})
+    if finish <= start:
+        return (Backward, {"name": name})
+    if office.length(origin, goal) is None:
+        return (NoWay, {"origin": origin, "goal": goal})
+    if finish - start < office.length(origin, goal):
+        return (TooFast, {"name": name})
+    return None
 
 
 def random_office(source, most_places=4, most_ways=10, count=5, latest=25, longest=5):
@@ -419,7 +463,7 @@ class SomeCars(AnyKeys):
     def __init__(self, home, cars):
         self.judge = CarJudge(home, cars)
         self.home = home
-        self.cars = {name: (seats, reach) for name, seats, reach in cars}
+        self.cars = {car[0]: car for car in cars}
 
     def known(self, key):
         return key in self.cars
@@ -428,11 +472,7 @@ class SomeCars(AnyKeys):
         return self.home
 
     def may_drive(self, office, key, names):
-        if office.block_refusal(self.home, names):
-            return False
-        seats, reach = self.cars[key]
-        wanted = max((office.trips[name][5] for name in names), default=0)
-        return wanted <= seats and office.driven(self.home, names) <= reach
+        return not office.block_refusal(self.home, names) and car_fits(office, self.home, names, self.cars[key])
 
 
 class SomeDrivers(AnyKeys):
@@ -521,6 +561,53 @@ def random_rows(source, office, keys, strange=0.05):
     return rows, lists[-1]
 
 
+def plain_things(office, rows, loose, now):
+    """The things with the key of whose tail each is a piece, and its place among how many pieces."""
+    things = []
+    for key, names in rows.items():
+        cut = plain_pieces(office, names[len(plain_begun(office, names, now)):])
+        things += [(piece, key, place, len(cut)) for place, piece in enumerate(cut)]
+    return things + [([name], None, 0, 1) for name in loose]
+
+
+def plain_able(office, asked, rows, now, failed, thing):
+    names, owner, place, _ = thing
+    told = []
+    for key, row in rows.items():
+        had = plain_begun(office, row, now)
+        under_way = key == owner and place == 0
+        if key not in failed and asked.may_drive(office, key, had + names):
+            if under_way or plain_in_time(office, asked, key, had, names[0], now):
+                told.append(key)
+    return told
+
+
+def tail_costs(office, asked, rows, now, failed, things):
+    costs = {}
+    for number, thing in enumerate(things):
+        costs[number] = {
+            key: (thing[1] not in (None, key) and thing[3] == 1)
+            + (rows[key] != [] and plain_begun(office, rows[key], now) == rows[key])
+            for key in plain_able(office, asked, rows, now, failed, thing)
+        }
+    return costs
+
+
+def dealt_rows(office, rows, now, things, dealt):
+    told = {key: plain_begun(office, names, now) for key, names in rows.items()}
+    for number, key in dealt.items():
+        if key is not None:
+            told[key] = told[key] + things[number][0]
+    left = [name for number in sorted(dealt) if dealt[number] is None for name in things[number][0]]
+    return told, left, [key for key in rows if rows[key] and told[key] != rows[key]]
+
+
+def worth(things, told):
+    """How many trips are left, and how many rows that were not empty changed, but for those that were cut."""
+    cut = {thing[1] for thing in things if thing[3] > 1}
+    return (len(told[1]), len([key for key in told[2] if key not in cut]))
+
+
 def random_mending(source, most_keys):
     """An office, a judge, rows, a minute, loose trips and failed keys, now and then with something to refuse."""
     office = random_office(source, most_ways=14, count=source.randint(0, 6), latest=30)
@@ -529,3 +616,145 @@ def random_mending(source, most_keys):
     rows, loose = random_rows(source, office, keys)
     failed = [source.choice(keys + ["z"] * (source.random() < 0.05)) for _ in keys if source.random() < 0.2]
     return office, asked, rows, source.randint(-2, 30), loose, failed
+
+
+def plain_lawful(office, home, rule):
+    return [
+        names for names in office.rows()
+        if 1 <= len(names) <= 5 and office.block_refusal(home, names) is None
+        and plain_fits(rule, plain_sheet(office, home, names))
+    ]
+
+
+def lawful_refusal(office, home, rule):
+    if home not in office.places:
+        return (NoPlace, {"name": home})
+    for name in sorted(office.trips, key=lambda name: (office.trips[name][3], office.trips[name][4], name)):
+        refusal = office.block_refusal(home, [name])
+        if refusal:
+            return refusal
+        if not plain_fits(rule, plain_sheet(office, home, [name])):
+            return (Unlawful, {"name": name})
+    return None
+
+
+def groups(*counts):
+    """A table of groups of trips, in each of which all are linked, each group too far away from the others."""
+    places = ["h"] + [f"p{number}" for number in range(len(counts))]
+    ways = [("h", place, 1000) for place in places[1:]] + [(place, "h", 1000) for place in places[1:]]
+    trips = [
+        (f"t{group}x{number}", f"p{group}", f"p{group}", 5000 + 2 * number, 5001 + 2 * number, 0)
+        for group, count in enumerate(counts) for number in range(count)
+    ]
+    return Table(Roads(places, ways), trips)
+
+
+def cut_refusal(office, home, names, limit):
+    refusal = office.row_refusal(home, names)
+    if refusal:
+        return refusal
+    for name in names:
+        refusal = office.block_refusal(home, [name])
+        if refusal:
+            return refusal
+        if office.driven(home, [name]) > limit:
+            return (TooLong, {"name": name})
+    return None
+
+
+def drive(metre, loads, night):
+    """What the metre shows at each day's end, by driving one minute after the other."""
+    shown = []
+    for day, load in enumerate(loads):
+        for _ in range(load):
+            metre += 1
+        shown.append(metre)
+        if day == night:
+            metre = 0
+    return shown
+
+
+def plain_nights(metre, due, loads):
+    return [night for night in range(7) if all(minutes <= due for minutes in drive(metre, loads, night))]
+
+
+def blocks_refusal(office, home, blocks, cars):
+    refusal = cars_refusal(cars)
+    if refusal:
+        return refusal
+    if len(blocks) > 40:
+        return (TooMany, {"most": 40})
+    for names in blocks:
+        refusal = office.block_refusal(home, names)
+        if refusal:
+            return refusal
+    return None
+
+
+def car_fits(office, home, names, car):
+    return all(office.trips[name][5] <= car[1] for name in names) and office.driven(home, names) <= car[2]
+
+
+def random_weeks(source, count):
+    return [
+        (f"c{number}", source.randint(0, 6), source.randint(4, 9), [source.randint(0, 2) for _ in range(7)])
+        for number in range(count)
+    ]
+
+
+class Changes:
+    """Values of the same kind with one thing changed: a number, a name, something more, less or twice. Nones tells
+    whether None is of that kind in dicts, nested whether the lists hold lists, texts whether they can hold texts."""
+
+    def __init__(self, names, nones=False, nested=False, texts=True):
+        self.names = names
+        self.nones = nones
+        self.nested = nested
+        self.texts = texts
+
+    def of(self, value):
+        if isinstance(value, int):
+            yield from (value + 1, value - 1, -1 - value)
+        elif isinstance(value, str):
+            yield from (name for name in self.names if name != value)
+        elif isinstance(value, tuple):
+            for place, part in enumerate(value):
+                yield from (value[:place] + (other,) + value[place + 1:] for other in self.of(part))
+        elif isinstance(value, list):
+            yield from self.of_list(value)
+        elif isinstance(value, dict):
+            yield from self.of_dict(value)
+
+    def of_list(self, value):
+        yield []
+        for place, part in enumerate(value):
+            yield value[:place] + value[place + 1:]
+            yield value[:place] + [part] + value[place:]
+            yield value[:place] + value[place + 1:] + [part]
+            inner = Changes(self.names, self.nones) if self.nested else self
+            yield from (value[:place] + [other] + value[place + 1:] for other in inner.of(part))
+        if self.nested:
+            yield value + [[]]
+            yield from (value + [[name]] for name in self.names)
+        elif self.texts and (not value or isinstance(value[0], str)):
+            yield from (value + [name] for name in self.names)
+
+    def of_dict(self, value):
+        yield {}
+        for key, part in value.items():
+            rest = {other: value[other] for other in value if other != key}
+            yield rest
+            yield from (rest | {other: part} for other in self.of(key))
+            yield from (value | {other: part} for other in self.of(key) if other not in value)
+            yield from (value | {key: other} for other in self.of(part))
+            if self.nones:
+                yield from (value | {key: other} for other in self.names + [0, 3, None] if other != part)
+
+
+def changed_asks(source, told, changes, count):
+    """Arguments like those told with one of them changed in one thing, as many as told at most; the changes stand at
+    the places of those that may be."""
+    found = [
+        told[:place] + (other,) + told[place + 1:] for place in changes for other in changes[place].of(told[place])
+    ]
+    return source.sample(found, min(count, len(found)))

@@ -7,7 +7,7 @@ from fleetpath.blocks import TooLong, Unlinked, block_length, check_row, cut, le
 from fleetpath.errors import LIMIT, NoPlace, NoTrip, NoWay, Twice
 from fleetpath.roads import Roads
 from fleetpath.trips import Table
-from tests.helper import Case, Office, outcome, random_names, random_office
+from tests.helper import Case, Office, cut_refusal, outcome, random_names, random_office
 
 PLACES = ["h", "p", "q"]
 WAYS = [("h", "p", 3), ("p", "h", 4), ("p", "q", 5), ("q", "p", 6), ("q", "h", 4), ("h", "q", 20)]
@@ -152,19 +152,6 @@ def cuts(names):
             else:
                 pieces[-1].append(name)
         yield pieces
-
-
-def cut_refusal(office, home, names, limit):
-    refusal = office.row_refusal(home, names)
-    if refusal:
-        return refusal
-    for name in names:
-        refusal = office.block_refusal(home, [name])
-        if refusal:
-            return refusal
-        if office.driven(home, [name]) > limit:
-            return (TooLong, {"name": name})
-    return None
 
 
 class Cuts(Case):

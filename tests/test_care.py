@@ -5,7 +5,7 @@ import random
 from fleetpath import care as module
 from fleetpath.care import Crowded, NoNight, care, check_weeks, metres, nights
 from fleetpath.errors import LIMIT, BadName, BadNumber, TooMany, Twice
-from tests.helper import Case, outcome
+from tests.helper import Case, drive, outcome, plain_nights
 
 NONE = [0] * 7
 # Night 2 alone: 4 up to day 2, and 4 behind it.
@@ -14,22 +14,6 @@ ONE_NIGHT = ("one", 1, 4, [1, 1, 1, 1, 1, 1, 1])
 
 def week(name="car", metre=0, due=10, loads=NONE):
     return (name, metre, due, list(loads))
-
-
-def drive(metre, loads, night):
-    """What the metre shows at each day's end, by driving one minute after the other."""
-    shown = []
-    for day, load in enumerate(loads):
-        for _ in range(load):
-            metre += 1
-        shown.append(metre)
-        if day == night:
-            metre = 0
-    return shown
-
-
-def plain_nights(metre, due, loads):
-    return [night for night in range(7) if all(minutes <= due for minutes in drive(metre, loads, night))]
 
 
 class Errors(Case):

@@ -7,38 +7,7 @@ from fleetpath.errors import NoPlace, NoWay, TooMany
 from fleetpath.hours import AllOf, Pause, Rule, Shift, Span, Work, sheet
 from fleetpath.roads import Roads
 from fleetpath.trips import Table
-from tests.helper import Case, outcome, plain_fits, plain_sheet, random_office, some_rules, subsets
-
-
-def plain_lawful(office, home, rule):
-    return [
-        names for names in office.rows()
-        if 1 <= len(names) <= 5 and office.block_refusal(home, names) is None
-        and plain_fits(rule, plain_sheet(office, home, names))
-    ]
-
-
-def plain_refusal(office, home, rule):
-    if home not in office.places:
-        return (NoPlace, {"name": home})
-    for name in sorted(office.trips, key=lambda name: (office.trips[name][3], office.trips[name][4], name)):
-        refusal = office.block_refusal(home, [name])
-        if refusal:
-            return refusal
-        if not plain_fits(rule, plain_sheet(office, home, [name])):
-            return (Unlawful, {"name": name})
-    return None
-
-
-def groups(*counts):
-    """A table of groups of trips, in each of which all are linked, each group too far away from the others."""
-    places = ["h"] + [f"p{number}" for number in range(len(counts))]
-    ways = [("h", place, 1000) for place in places[1:]] + [(place, "h", 1000) for place in places[1:]]
-    trips = [
-        (f"t{group}x{number}", f"p{group}", f"p{group}", 5000 + 2 * number, 5001 + 2 * number, 0)
-        for group, count in enumerate(counts) for number in range(count)
-    ]
-    return Table(Roads(places, ways), trips)
+from tests.helper import Case, groups, lawful_refusal, outcome, plain_lawful, random_office, some_rules, subsets
 
 
 class Errors(Case):
@@ -49,7 +18,7 @@ class Errors(Case):
 
 class Lawful(Case):
     def assert_as_a_plain_search(self, office, home, rule):
-        refusal = plain_refusal(office, home, rule)
+        refusal = lawful_refusal(office, home, rule)
         if refusal:
             self.assertEqual(outcome(lawful, office.table, home, rule), refusal)
             return "refused"

@@ -8,7 +8,7 @@ from fleetpath.errors import LIMIT, BadName, BadNumber, NoPlace, NoTrip, NoWay, 
 from fleetpath.giving import TooFew, check_cars, dealt, fit_cars, give_cars
 from fleetpath.roads import Roads
 from fleetpath.trips import Table
-from tests.helper import Case, can_be_dealt, cars_refusal, outcome, random_names, random_office, subsets
+from tests.helper import Case, blocks_refusal, can_be_dealt, car_fits, outcome, random_names, random_office, subsets
 
 PLACES = ["h", "p", "far"]
 WAYS = [("h", "p", 3), ("p", "h", 4), ("far", "h", 1)]
@@ -180,23 +180,6 @@ class Gives(Case):
         self.assertEqual(told, forty(lambda number: f"c{39 - number}"))
 
 
-def plain_refusal(office, home, blocks, cars):
-    refusal = cars_refusal(cars)
-    if refusal:
-        return refusal
-    if len(blocks) > 40:
-        return (TooMany, {"most": 40})
-    for names in blocks:
-        refusal = office.block_refusal(home, names)
-        if refusal:
-            return refusal
-    return None
-
-
-def plain_fit(office, home, names, car):
-    return all(office.trips[name][5] <= car[1] for name in names) and office.driven(home, names) <= car[2]
-
-
 class Refusals(Case):
     def assert_refused_by_both(self, kind, fields, *args):
         for ask in (fit_cars, give_cars):
@@ -251,12 +234,12 @@ class Refusals(Case):
         self.assertGreater(seen.count("given"), 100)
 
     def assert_as_plain(self, office, home, blocks, cars):
-        refusal = plain_refusal(office, home, blocks, cars)
+        refusal = blocks_refusal(office, home, blocks, cars)
         if refusal:
             self.assertEqual(outcome(fit_cars, office.table, home, blocks, cars), refusal)
             self.assertEqual(outcome(give_cars, office.table, home, blocks, cars), refusal)
             return "refused"
-        fit = [[car[0] for car in cars if plain_fit(office, home, names, car)] for names in blocks]
+        fit = [[car[0] for car in cars if car_fits(office, home, names, car)] for names in blocks]
         self.assertEqual(fit_cars(office.table, home, blocks, cars), fit)
         rows = dict(enumerate(fit))
         if not can_be_dealt(rows):

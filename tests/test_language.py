@@ -75,6 +75,37 @@ def values_of(tree):
     ]
 
 
+def with_parents(tree):
+    """Every node but the tree itself, with the node that it stands in."""
+    return [(node, parent) for parent in ast.walk(tree) for node in ast.iter_child_nodes(parent)]
+
+
+def called(node):
+    """The name of the function or the method that a node calls, or None."""
+    if not isinstance(node, ast.Call):
+        return None
+    return node.func.id if isinstance(node.func, ast.Name) else getattr(node.func, "attr", None)
+
+
+def is_walked(node, parent):
+    """Whether a node stands where something is walked on the spot."""
+    if isinstance(parent, (ast.For, ast.comprehension)):
+        return parent.iter is node
+    if called(parent) in ("list", "tuple", "dict", "sorted", "sum", "any", "all", "enumerate", "zip", "min", "max"):
+        return parent.args[0] is node
+    return called(parent) == "join" and isinstance(parent.func.value, ast.Constant)
+
+
+class Functions(ast.NodeTransformer):
+    """Puts a plain value in the place of each function that was defined above."""
+
+    def __init__(self, above):
+        self.above = above
+
+    def visit_Name(self, node):
+        return ast.Constant(node.id) if node.id in self.above else node
+
+
 class Language(Case):
     def test_files_and_signs(self):
         for path in PACKAGE.rglob("*"):
@@ -124,9 +155,12 @@ class Language(Case):
         for path in FILES:
             with self.subTest(file=path.name):
                 tree = tree_of(path)
+                above = []
                 for node in tree.body:
                     if isinstance(node, ast.Assign):
-                        ast.literal_eval(node.value)
+                        ast.literal_eval(Functions(above).visit(node.value))
+                    elif isinstance(node, ast.FunctionDef):
+                        above.append(node.name)
                     elif node is not tree.body[0]:
                         self.assertIsInstance(node, (ast.ImportFrom, ast.FunctionDef, ast.ClassDef))
 
@@ -181,6 +215,92 @@ class Language(Case):
                 for node in ast.walk(tree):
                     if isinstance(node, ast.Attribute):
                         self.assertIn(node.attr, METHODS + methods + values)
+
+    def test_each_name_once_at_the_top(self):
+        for path in FILES:
+            with self.subTest(file=path.name):
+                tree = tree_of(path)
+                names = imported(tree) + [node.name for node in tree.body if hasattr(node, "name")]
+                names += [node.targets[0].id for node in tree.body if isinstance(node, ast.Assign)]
+                self.assertEqual(len(set(names)), len(names))
+
+    def test_lists_and_dicts_of_the_top_are_only_read(self):
+        for path in FILES:
+            with self.subTest(file=path.name):
+                tree = tree_of(path)
+                kept = [node.targets[0].id for node in tree.body
+                        if isinstance(node, ast.Assign) and isinstance(node.value, (ast.List, ast.Dict))]
+                for node, parent in with_parents(tree):
+                    if isinstance(node, ast.Name) and node.id in kept and isinstance(node.ctx, ast.Load):
+                        read = isinstance(parent, ast.Subscript) and isinstance(parent.ctx, ast.Load)
+                        asked = isinstance(parent, ast.Compare) or called(parent) == "len"
+                        self.assertTrue(read or asked or is_walked(node, parent), node.lineno)
+                for node in tree.body:
+                    if isinstance(node, ast.Assign) and isinstance(node.value, (ast.List, ast.Dict)):
+                        inner = [part for part in ast.walk(node.value) if part is not node.value]
+                        self.assertFalse([part for part in inner if isinstance(part, (ast.List, ast.Dict))])
+
+    def test_walked_at_once(self):
+        walked = ("zip", "enumerate", "reversed", "range", "items", "keys", "values")
+        for path in FILES:
+            with self.subTest(file=path.name):
+                for node, parent in with_parents(tree_of(path)):
+                    if called(node) in walked:
+                        self.assertTrue(is_walked(node, parent), node.lineno)
+
+    def test_sets(self):
+        for path in FILES:
+            with self.subTest(file=path.name):
+                for node, parent in with_parents(tree_of(path)):
+                    self.assertNotIsInstance(node, ast.Set)
+                    if called(node) in ("set", "frozenset"):
+                        asked = isinstance(parent, (ast.Compare, ast.BinOp)) or called(parent) in ("sorted", "len")
+                        self.assertTrue(asked, node.lineno)
+
+    def test_keywords(self):
+        allowed = {
+            "sorted": ("key", "reverse"), "min": ("key", "default"), "max": ("key", "default"), "sum": ("start",),
+            "enumerate": ("start",), "zip": ("strict",),
+        }
+        for path in FILES:
+            with self.subTest(file=path.name):
+                for node in ast.walk(tree_of(path)):
+                    for keyword in node.keywords if isinstance(node, ast.Call) else []:
+                        self.assertIn(keyword.arg, allowed.get(called(node), ()))
+
+    def test_where_classes_stand(self):
+        classes = [node.name for path in FILES for node in classes_of(tree_of(path))]
+        self.assertEqual(len(set(classes)), len(classes))
+        for path in FILES:
+            with self.subTest(file=path.name):
+                for node, parent in with_parents(tree_of(path)):
+                    if isinstance(node, ast.Name) and node.id in classes:
+                        made = isinstance(parent, ast.Call) and parent.func is node
+                        self.assertTrue(made or isinstance(parent, (ast.ClassDef, ast.ExceptHandler)), node.lineno)
+
+    def test_texts_and_numbers(self):
+        for path in FILES:
+            with self.subTest(file=path.name):
+                for node in ast.walk(tree_of(path)):
+                    if isinstance(node, ast.Constant) and isinstance(node.value, str):
+                        self.assertNotIn("%", node.value)
+                    self.assertNotIsInstance(node, (ast.Pow, ast.Global, ast.Nonlocal))
+
+    def test_values_of_objects(self):
+        banned = """items keys values pop update append clear extend insert remove reverse setdefault sort args encode
+            format""".split()
+        for path in FILES:
+            with self.subTest(file=path.name):
+                for name in values_of(tree_of(path)):
+                    self.assertNotIn(name, banned)
+
+    def test_errors_that_are_taken(self):
+        own = [node.name for path in FILES for node in classes_of(tree_of(path))]
+        for path in FILES:
+            with self.subTest(file=path.name):
+                for node in ast.walk(tree_of(path)):
+                    if isinstance(node, ast.ExceptHandler):
+                        self.assertIn(node.type.id, own)
 
     def test_is_and_errors(self):
         for path in FILES:

@@ -9,7 +9,7 @@ from fleetpath.mending import BIG, begun, in_time, mend, pieces
 from fleetpath.roads import Roads
 from fleetpath.trips import Table
 from tests.helper import (
-    AnyKeys, Case, dealings, plain_begun, plain_in_time, plain_pieces, random_judge, random_office,
+    AnyKeys, Case, dealings, dealt_rows, plain_begun, plain_in_time, plain_pieces, random_judge, random_office, worth,
 )
 
 PLACES = ["h", "p", "out", "in"]
@@ -158,75 +158,11 @@ class InTime(Case):
         self.assertGreater(min(seen.count(True), seen.count(False)), 100)
 
 
-def plain_things(office, rows, loose, now):
-    """The things with the key of whose tail each is a piece, and its place among how many pieces."""
-    things = []
-    for key, names in rows.items():
-        cut = plain_pieces(office, names[len(plain_begun(office, names, now)):])
-        things += [(piece, key, place, len(cut)) for place, piece in enumerate(cut)]
-    return things + [([name], None, 0, 1) for name in loose]
-
-
-def plain_able(office, asked, rows, now, failed, thing):
-    names, owner, place, _ = thing
-    told = []
-    for key, row in rows.items():
-        had = plain_begun(office, row, now)
-        under_way = key == owner and place == 0
-        if key not in failed and asked.may_drive(office, key, had + names):
-            if under_way or plain_in_time(office, asked, key, had, names[0], now):
-                told.append(key)
-    return told
-
-
-def plain_costs(office, asked, rows, now, failed, things):
-    costs = {}
-    for number, thing in enumerate(things):
-        costs[number] = {
-            key: (thing[1] not in (None, key) and thing[3] == 1)
-            + (rows[key] != [] and plain_begun(office, rows[key], now) == rows[key])
-            for key in plain_able(office, asked, rows, now, failed, thing)
-        }
-    return costs
-
-
-def rows_by(office, rows, now, things, dealt):
-    told = {key: plain_begun(office, names, now) for key, names in rows.items()}
-    for number, key in dealt.items():
-        if key is not None:
-            told[key] = told[key] + things[number][0]
-    left = [name for number in sorted(dealt) if dealt[number] is None for name in things[number][0]]
-    return told, left, [key for key in rows if rows[key] and told[key] != rows[key]]
-
-
-def worth(things, told):
-    """How many trips are left, and how many rows that were not empty changed, but for those that were cut."""
-    cut = {thing[1] for thing in things if thing[3] > 1}
-    return (len(told[1]), len([key for key in told[2] if key not in cut]))
-
-
 class Mended(Case):
-    def assert_mended(self, office, asked, rows, now, loose, failed):
-        """What is told is as told by the document, and no dealing is better."""
-        told = mend(office.table, asked.judge, rows, now, loose, failed)
-        self.assertEqual([type(part) for part in told], [dict, list, list, tuple])
-        things = plain_things(office, rows, loose, now)
-        costs = plain_costs(office, asked, rows, now, failed, things)
-        leaving = {
-            number: BIG * len(names) + (owner is not None and count == 1)
-            for number, (names, owner, _, count) in enumerate(things)
-        }
-        self.assertEqual(told[3][:3], ([thing[0] for thing in things], costs, leaving))
-        self.assertEqual(len(told[3]), 6)
-        cost = self.assert_dealing(costs, leaving, told[3][3:])
-        self.assertEqual(told[:3], rows_by(office, rows, now, things, told[3][3]))
-        self.assertEqual(list(told[0]), list(rows))
-        self.assertEqual(divmod(cost, BIG), worth(things, told))
-        return things, costs, told
-
     def look(self, office, asked, rows, now, loose, failed):
-        things, costs, told = self.assert_mended(office, asked, rows, now, loose, failed)
-        best = min(worth(things, rows_by(office, rows, now, things, dealt)) for dealt in dealings(costs))
+        told = mend(office.table, asked.judge, rows, now, loose, failed)
+        things, costs = self.assert_mended(told, office, asked, rows, now, loose, failed)
+        best = min(worth(things, dealt_rows(office, rows, now, things, dealt)) for dealt in dealings(costs))
         self.assertEqual(worth(things, told), best)
         return told[2] != []
 
